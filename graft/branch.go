@@ -11,10 +11,6 @@ type branch struct {
 	tree tree // the one at work on
 }
 
-type commit struct {
-	tree tree
-}
-
 func (s *Store) place(name string) (int, bool) {
 	return slices.BinarySearchFunc(s.branches, name, func(b *branch, n string) int {
 		return strings.Compare(b.name, n)
@@ -28,14 +24,6 @@ func (s *Store) find(name string) *branch {
 		return nil
 	}
 	return s.branches[i]
-}
-
-// treeOf answers a head's tree: the empty one without a head.
-func (s *Store) treeOf(head int) tree {
-	if head == 0 {
-		return nil
-	}
-	return s.commits[head-1].tree
 }
 
 // grow makes a branch with this head, and at work on the head's tree.

@@ -8,6 +8,7 @@ import (
 func TestNewIsBare(t *testing.T) {
 	s := New()
 	hasBranches(t, s)
+	hasNoTree(t, s, 1)
 	if got, e := s.Show("a"); got != "" || e != ErrBranch {
 		t.Errorf("Show of nobody = %q, %d", got, e)
 	}
@@ -69,21 +70,16 @@ func TestForkWithoutHead(t *testing.T) {
 func TestForkTakesTheHead(t *testing.T) {
 	s := planted(t)
 	allowed(t, "Put", s.Put("a", "s", "x"))
-	a := s.find("a")
-	s.commits = append(s.commits, commit{tree: a.tree})
-	a.head = 1
+	commits(t, s, "a", 1)
 	allowed(t, "Put", s.Put("a", "s", "y"))
 	allowed(t, "Fork", s.Fork("b", "a"))
-	if head := s.find("b").head; head != 1 {
-		t.Errorf("the fork's head is %d, want 1", head)
-	}
+	hasHistory(t, s, "b", 1)
+	commitsNot(t, s, "b", ErrSame)
 	shows(t, s, "b", "s *x\n")
 	allowed(t, "Put", s.Put("b", "s", "z"))
 	allowed(t, "Take", s.Take("b", "s", "x"))
 	shows(t, s, "a", "s *x;y\n")
-	if got := s.commits[0].tree.written(); got != "s *x\n" {
-		t.Errorf("a commit's tree became %q", got)
-	}
+	hasTree(t, s, 1, "s *x\n")
 	allowed(t, "Drop", s.Drop("a"))
 	allowed(t, "Fork", s.Fork("c", "b"))
 	shows(t, s, "c", "s *x\n")
@@ -91,7 +87,7 @@ func TestForkTakesTheHead(t *testing.T) {
 
 // Whatever is done to one who shares a tree, the others keep theirs.
 func TestSharedTreesStay(t *testing.T) {
-	const shared = "n #1\ns *x;y\nt =hi\n"
+	const shared = "n #1\ns *w;x;y\nt =hi\n"
 	for _, change := range []func(*Store) Errno{
 		func(s *Store) Errno { return s.Add("b", "n", 1) },
 		func(s *Store) Errno { return s.Add("b", "a", 1) },
@@ -104,17 +100,18 @@ func TestSharedTreesStay(t *testing.T) {
 		s := planted(t)
 		allowed(t, "Add", s.Add("a", "n", 1))
 		allowed(t, "Note", s.Note("a", "t", "hi"))
+		// Three, one by one: a list that grew so may have room behind it.
+		allowed(t, "Put", s.Put("a", "s", "w"))
 		allowed(t, "Put", s.Put("a", "s", "x"))
 		allowed(t, "Put", s.Put("a", "s", "y"))
-		a := s.find("a")
-		s.commits = append(s.commits, commit{tree: a.tree})
-		a.head = 1
+		commits(t, s, "a", 1)
 		allowed(t, "Fork", s.Fork("b", "a"))
 		allowed(t, "the change", change(s))
 		if got, _ := s.Show("b"); got == shared {
 			t.Errorf("the change changed nothing")
 		}
 		shows(t, s, "a", shared)
+		hasTree(t, s, 1, shared)
 		allowed(t, "Fork", s.Fork("c", "a"))
 		shows(t, s, "c", shared)
 	}

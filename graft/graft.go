@@ -88,7 +88,16 @@ func (s *Store) Delete(branch string, path string) Errno {
 }
 
 // Commit takes a tree down (P5).
-func (s *Store) Commit(branch string) (int, Errno) { return 0, OK }
+func (s *Store) Commit(branch string) (int, Errno) {
+	b := s.find(branch)
+	if b == nil {
+		return 0, ErrBranch
+	}
+	if !s.atWork(b) {
+		return 0, ErrSame
+	}
+	return s.keep(b, commit{parents: parentsOf(b.head), tree: b.tree})
+}
 
 // Join joins a branch into another one (P6).
 func (s *Store) Join(into string, from string) (int, Errno) { return 0, OK }
@@ -103,10 +112,21 @@ func (s *Store) Show(branch string) (string, Errno) {
 }
 
 // History tells a head's history (P7).
-func (s *Store) History(branch string) ([]int, Errno) { return nil, OK }
+func (s *Store) History(branch string) ([]int, Errno) {
+	b := s.find(branch)
+	if b == nil {
+		return nil, ErrBranch
+	}
+	return s.history(b.head), OK
+}
 
 // Tree tells a commit's tree (P7).
-func (s *Store) Tree(commit int) (string, Errno) { return "", OK }
+func (s *Store) Tree(commit int) (string, Errno) {
+	if !s.hasCommit(commit) {
+		return "", ErrAbsent
+	}
+	return s.treeOf(commit).written(), OK
+}
 
 // Base tells the base of two commits (P7).
 func (s *Store) Base(a int, b int) (string, Errno) { return "", OK }

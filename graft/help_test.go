@@ -1,22 +1,31 @@
 package graft
 
 import (
+	"fmt"
 	"slices"
 	"strings"
 	"testing"
 )
 
-// state tells all that a store shows: its branches, and the tree of each.
+// state tells all that a store shows: its branches, with the history and the
+// tree of each, and the trees of all commits.
 func state(s *Store) string {
 	var b strings.Builder
 	for _, name := range s.Branches() {
-		tree, e := s.Show(name)
-		if e != OK {
+		history, e := s.History(name)
+		tree, f := s.Show(name)
+		if e != OK || f != OK {
 			b.WriteString("!")
 		}
-		b.WriteString(name + ":\n" + tree)
+		fmt.Fprintf(&b, "%s: %v\n%s", name, history, tree)
 	}
-	return b.String()
+	for n := 1; ; n++ {
+		tree, e := s.Tree(n)
+		if e != OK {
+			return b.String()
+		}
+		fmt.Fprintf(&b, "%d:\n%s", n, tree)
+	}
 }
 
 // allowed: the call answers OK.
@@ -43,6 +52,47 @@ func shows(t *testing.T, s *Store, branch string, want string) {
 	t.Helper()
 	if got, e := s.Show(branch); got != want || e != OK {
 		t.Errorf("Show(%q) = %q, %d, want %q", branch, got, e, want)
+	}
+}
+
+// commits: Commit answers this number.
+func commits(t *testing.T, s *Store, branch string, want int) {
+	t.Helper()
+	if n, e := s.Commit(branch); n != want || e != OK {
+		t.Errorf("Commit(%q) = %d, %d, want %d", branch, n, e, want)
+	}
+}
+
+// commitsNot: Commit answers 0 and this error, and nothing has changed.
+func commitsNot(t *testing.T, s *Store, branch string, want Errno) {
+	t.Helper()
+	refused(t, s, fmt.Sprintf("Commit(%.20q)", branch), func() Errno {
+		n, e := s.Commit(branch)
+		if n != 0 {
+			t.Errorf("Commit(%.20q) answers %d beside the error %d", branch, n, e)
+		}
+		return e
+	}, want)
+}
+
+func hasHistory(t *testing.T, s *Store, branch string, want ...int) {
+	t.Helper()
+	if got, e := s.History(branch); !slices.Equal(got, want) || e != OK {
+		t.Errorf("History(%q) = %v, %d, want %v", branch, got, e, want)
+	}
+}
+
+func hasTree(t *testing.T, s *Store, commit int, want string) {
+	t.Helper()
+	if got, e := s.Tree(commit); got != want || e != OK {
+		t.Errorf("Tree(%d) = %q, %d, want %q", commit, got, e, want)
+	}
+}
+
+func hasNoTree(t *testing.T, s *Store, commit int) {
+	t.Helper()
+	if got, e := s.Tree(commit); got != "" || e != ErrAbsent {
+		t.Errorf("Tree(%d) = %q, %d, want nothing and ErrAbsent", commit, got, e)
 	}
 }
 

@@ -16,6 +16,8 @@ func TestFirstExample(t *testing.T) {
 	allowed(t, "Add", s.Add("a", "x/n", 5))
 	shows(t, s, "a", "x/n #5\n")
 	refused(t, s, "Note", func() Errno { return s.Note("a", "x", "hi") }, ErrBlock)
+	commits(t, s, "a", 1)
+	commitsNot(t, s, "a", ErrSame)
 }
 
 func TestShowOrdersNameByName(t *testing.T) {

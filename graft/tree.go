@@ -53,6 +53,12 @@ func (t tree) without(path string) tree {
 	return slices.Delete(slices.Clone(t), i, i+1)
 }
 
+func (t tree) same(u tree) bool {
+	return slices.EqualFunc(t, u, func(l leaf, m leaf) bool {
+		return l.path == m.path && l.value.same(m.value)
+	})
+}
+
 func (t tree) written() string {
 	var b strings.Builder
 	for _, l := range t {

@@ -36,6 +36,10 @@ func (v value) written() string {
 	return ""
 }
 
+func (v value) same(w value) bool {
+	return v.kind == w.kind && v.count == w.count && v.text == w.text && slices.Equal(v.items, w.items)
+}
+
 // withItem answers a bag of v's items and this one.
 func (v value) withItem(item string) value {
 	i, there := slices.BinarySearch(v.items, item)

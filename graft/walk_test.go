@@ -190,6 +190,133 @@ func TestWalk(t *testing.T) {
 	}
 }
 
+// grove is a second telling of P3, P5 and P7, on models of trees: a commit is
+// its written tree behind the number of its parent.
+type grove struct {
+	trees   map[string]model
+	heads   map[string]int
+	parents []int
+	written []string
+}
+
+func (g *grove) headTree(head int) string {
+	if head == 0 {
+		return ""
+	}
+	return g.written[head-1]
+}
+
+func (g *grove) fork(name string, from string) Errno {
+	if g.trees[from] == nil {
+		return ErrBranch
+	}
+	if g.trees[name] != nil {
+		return ErrSame
+	}
+	if len(g.trees) == 6 {
+		return ErrMany
+	}
+	m := model{}
+	for _, line := range strings.Split(g.headTree(g.heads[from]), "\n") {
+		if path, value, there := strings.Cut(line, " "); there {
+			m[path] = value
+		}
+	}
+	g.trees[name], g.heads[name] = m, g.heads[from]
+	return OK
+}
+
+func (g *grove) drop(name string) Errno {
+	if g.trees[name] == nil {
+		return ErrBranch
+	}
+	delete(g.trees, name)
+	delete(g.heads, name)
+	return OK
+}
+
+func (g *grove) commit(name string) (int, Errno) {
+	if g.trees[name] == nil {
+		return 0, ErrBranch
+	}
+	tree := g.trees[name].written()
+	if tree == g.headTree(g.heads[name]) {
+		return 0, ErrSame
+	}
+	if len(g.parents) == 60 {
+		return 0, ErrMany
+	}
+	g.parents = append(g.parents, g.heads[name])
+	g.written = append(g.written, tree)
+	g.heads[name] = len(g.parents)
+	return len(g.parents), OK
+}
+
+// state: the same as a store's.
+func (g *grove) state() string {
+	var b strings.Builder
+	for _, name := range slices.Sorted(maps.Keys(g.trees)) {
+		history := []int{}
+		for n := g.heads[name]; n > 0; n = g.parents[n-1] {
+			history = append(history, n)
+		}
+		fmt.Fprintf(&b, "%s: %v\n%s", name, history, g.trees[name].written())
+	}
+	for i, tree := range g.written {
+		fmt.Fprintf(&b, "%d:\n%s", i+1, tree)
+	}
+	return b.String()
+}
+
+// growStep does the same to a store and to its model, and answers both errors.
+func growStep(t *testing.T, r *rand.Rand, s *Store, g *grove) (Errno, Errno) {
+	names := []string{"a", "b", "c", "d", "e", "f", "g", "h"}
+	name, from := names[r.Intn(8)], names[r.Intn(8)]
+	switch r.Intn(12) {
+	case 0, 1:
+		return s.Fork(name, from), g.fork(name, from)
+	case 2:
+		return s.Drop(name), g.drop(name)
+	case 3, 4, 5:
+		n, e := s.Commit(name)
+		m, f := g.commit(name)
+		if n != m {
+			t.Fatalf("Commit(%s) = %d, want %d", name, n, m)
+		}
+		return e, f
+	}
+	if g.trees[name] == nil {
+		return s.Add(name, "a", 1), ErrBranch
+	}
+	return step(r, s, name, g.trees[name])
+}
+
+// Branches grow apart, with commits, as their model does.
+func TestCommitWalk(t *testing.T) {
+	r := rand.New(rand.NewSource(2))
+	seen := map[Errno]int{}
+	for range 15 {
+		s, g := planted(t), &grove{trees: map[string]model{"a": {}}, heads: map[string]int{}}
+		for range 500 {
+			got, want := growStep(t, r, s, g)
+			if seen[got]++; got != want {
+				t.Fatalf("a step answered %d, want %d, at\n%s", got, want, g.state())
+			}
+			if state(s) != g.state() {
+				t.Fatalf("the store is\n%s\nwant\n%s", state(s), g.state())
+			}
+			if len(g.trees) == 0 {
+				break
+			}
+		}
+	}
+	for _, e := range []Errno{OK, ErrMany, ErrBranch, ErrSame} {
+		if seen[e] == 0 {
+			t.Errorf("the walk never met the error %d", e)
+		}
+	}
+}
+
 // Every call ends and none panics, at all numbers and strings.
 func TestNoCallPanics(t *testing.T) {
 	words := slices.Concat([]string{"a", "b", "x/n"}, noNames, noPaths, noTexts)

@@ -10,6 +10,7 @@ const (
 	maxLeaves   = 24
 	maxItems    = 8
 	maxBranches = 6
+	maxCommits  = 60
 	maxCount    = 1000000000
 )
 
