@@ -31,6 +31,11 @@ func (s *Store) atWork(b *branch) bool {
 	return !b.tree.same(s.treeOf(b.head))
 }
 
+// move makes a commit a branch's head, and its tree the one at work on.
+func (s *Store) move(b *branch, head int) {
+	b.head, b.tree = head, s.treeOf(head)
+}
+
 // keep takes a commit down, if there is room for one, and makes it the
 // branch's head.
 func (s *Store) keep(b *branch, c commit) (int, Errno) {
@@ -38,6 +43,6 @@ func (s *Store) keep(b *branch, c commit) (int, Errno) {
 		return 0, ErrMany
 	}
 	s.commits = append(s.commits, c)
-	b.head = len(s.commits)
+	s.move(b, len(s.commits))
 	return b.head, OK
 }

@@ -100,7 +100,23 @@ func (s *Store) Commit(branch string) (int, Errno) {
 }
 
 // Join joins a branch into another one (P6).
-func (s *Store) Join(into string, from string) (int, Errno) { return 0, OK }
+func (s *Store) Join(into string, from string) (int, Errno) {
+	ours, theirs := s.find(into), s.find(from)
+	if ours == nil || theirs == nil {
+		return 0, ErrBranch
+	}
+	if s.atWork(ours) {
+		return 0, ErrSame
+	}
+	if s.holds(ours.head, theirs.head) {
+		return ours.head, OK
+	}
+	if s.holds(theirs.head, ours.head) {
+		s.move(ours, theirs.head)
+		return ours.head, OK
+	}
+	return s.join(ours, theirs.head)
+}
 
 // Show tells the tree at work on (P7).
 func (s *Store) Show(branch string) (string, Errno) {
@@ -129,7 +145,16 @@ func (s *Store) Tree(commit int) (string, Errno) {
 }
 
 // Base tells the base of two commits (P7).
-func (s *Store) Base(a int, b int) (string, Errno) { return "", OK }
+func (s *Store) Base(a int, b int) (string, Errno) {
+	if !s.hasCommit(a) || !s.hasCommit(b) {
+		return "", ErrAbsent
+	}
+	t, e := s.base(a, b)
+	if e != OK {
+		return "", e
+	}
+	return t.written(), OK
+}
 
 // Branches tells the branches' names (P3).
 func (s *Store) Branches() []string {

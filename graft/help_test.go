@@ -3,6 +3,7 @@ package graft
 import (
 	"fmt"
 	"slices"
+	"strconv"
 	"strings"
 	"testing"
 )
@@ -75,6 +76,51 @@ func commitsNot(t *testing.T, s *Store, branch string, want Errno) {
 	}, want)
 }
 
+// joins: Join answers this number.
+func joins(t *testing.T, s *Store, into string, from string, want int) {
+	t.Helper()
+	if n, e := s.Join(into, from); n != want || e != OK {
+		t.Errorf("Join(%q, %q) = %d, %d, want %d", into, from, n, e, want)
+	}
+}
+
+// joinsNot: Join answers 0 and this error, and nothing has changed.
+func joinsNot(t *testing.T, s *Store, into string, from string, want Errno) {
+	t.Helper()
+	refused(t, s, fmt.Sprintf("Join(%.20q, %.20q)", into, from), func() Errno {
+		n, e := s.Join(into, from)
+		if n != 0 {
+			t.Errorf("Join(%.20q, %.20q) answers %d beside the error %d", into, from, n, e)
+		}
+		return e
+	}, want)
+}
+
+// hasBase: Base answers this tree, whichever commit is named first.
+func hasBase(t *testing.T, s *Store, a int, b int, want string) {
+	t.Helper()
+	for _, c := range [][2]int{{a, b}, {b, a}} {
+		if got, e := s.Base(c[0], c[1]); got != want || e != OK {
+			t.Errorf("Base(%d, %d) = %q, %d, want %q", c[0], c[1], got, e, want)
+		}
+	}
+}
+
+// hasNoBase: Base answers nothing and this error, whichever commit is named
+// first, and nothing has changed.
+func hasNoBase(t *testing.T, s *Store, a int, b int, want Errno) {
+	t.Helper()
+	for _, c := range [][2]int{{a, b}, {b, a}} {
+		refused(t, s, fmt.Sprintf("Base(%d, %d)", c[0], c[1]), func() Errno {
+			got, e := s.Base(c[0], c[1])
+			if got != "" {
+				t.Errorf("Base(%d, %d) answers %q beside the error %d", c[0], c[1], got, e)
+			}
+			return e
+		}, want)
+	}
+}
+
 func hasHistory(t *testing.T, s *Store, branch string, want ...int) {
 	t.Helper()
 	if got, e := s.History(branch); !slices.Equal(got, want) || e != OK {
@@ -127,6 +173,38 @@ func crowded(t *testing.T) *Store {
 		allowed(t, "Put", s.Put("a", "s1", item))
 	}
 	return s
+}
+
+// lays: makes the tree at work on of a branch this one, by calls alone.
+func lays(t *testing.T, s *Store, branch string, tree string) {
+	t.Helper()
+	old, _ := s.Show(branch)
+	for line := range strings.Lines(old) {
+		path, _, _ := strings.Cut(line, " ")
+		allowed(t, "Delete "+path, s.Delete(branch, path))
+	}
+	for line := range strings.Lines(tree) {
+		path, value, _ := strings.Cut(strings.TrimSuffix(line, "\n"), " ")
+		allowed(t, "a value at "+path, sets(s, branch, path, value))
+	}
+	shows(t, s, branch, tree)
+}
+
+// sets lays a written value down at a path that has none.
+func sets(s *Store, branch string, path string, value string) Errno {
+	switch value[0] {
+	case '#':
+		n, _ := strconv.Atoi(value[1:])
+		return s.Add(branch, path, n)
+	case '=':
+		return s.Note(branch, path, value[1:])
+	}
+	for _, item := range strings.Split(value[1:], ";") {
+		if e := s.Put(branch, path, item); e != OK {
+			return e
+		}
+	}
+	return OK
 }
 
 var noNames = []string{

@@ -154,6 +154,13 @@ func TestHistoryLeavesNoGoroutine(t *testing.T) {
 		hasHistory(t, s, "b")
 		s.History("nobody")
 	}
+	hasEnded(t, before)
+}
+
+// hasEnded: no more goroutines than before go on. One that has sent its last
+// number may need a moment to be gone.
+func hasEnded(t *testing.T, before int) {
+	t.Helper()
 	for range 100 {
 		if runtime.NumGoroutine() <= before {
 			return

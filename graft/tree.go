@@ -77,6 +77,11 @@ func (t tree) blocks(path string) bool {
 	return false
 }
 
+// tangled tells whether a path of t leads to another one.
+func (t tree) tangled() bool {
+	return slices.ContainsFunc(t, func(l leaf) bool { return t.blocks(l.path) })
+}
+
 // otherKind tells whether a value is at the path that is not of the kind k.
 func (t tree) otherKind(path string, k kind) bool {
 	v := t.at(path)

@@ -190,94 +190,26 @@ func TestWalk(t *testing.T) {
 	}
 }
 
-// grove is a second telling of P3, P5 and P7, on models of trees: a commit is
-// its written tree behind the number of its parent.
-type grove struct {
-	trees   map[string]model
-	heads   map[string]int
-	parents []int
-	written []string
-}
-
-func (g *grove) headTree(head int) string {
-	if head == 0 {
-		return ""
-	}
-	return g.written[head-1]
-}
-
-func (g *grove) fork(name string, from string) Errno {
-	if g.trees[from] == nil {
-		return ErrBranch
-	}
-	if g.trees[name] != nil {
-		return ErrSame
-	}
-	if len(g.trees) == 6 {
-		return ErrMany
-	}
-	m := model{}
-	for _, line := range strings.Split(g.headTree(g.heads[from]), "\n") {
-		if path, value, there := strings.Cut(line, " "); there {
-			m[path] = value
-		}
-	}
-	g.trees[name], g.heads[name] = m, g.heads[from]
-	return OK
-}
-
-func (g *grove) drop(name string) Errno {
-	if g.trees[name] == nil {
-		return ErrBranch
-	}
-	delete(g.trees, name)
-	delete(g.heads, name)
-	return OK
-}
-
-func (g *grove) commit(name string) (int, Errno) {
-	if g.trees[name] == nil {
-		return 0, ErrBranch
-	}
-	tree := g.trees[name].written()
-	if tree == g.headTree(g.heads[name]) {
-		return 0, ErrSame
-	}
-	if len(g.parents) == 60 {
-		return 0, ErrMany
-	}
-	g.parents = append(g.parents, g.heads[name])
-	g.written = append(g.written, tree)
-	g.heads[name] = len(g.parents)
-	return len(g.parents), OK
-}
-
-// state: the same as a store's.
-func (g *grove) state() string {
-	var b strings.Builder
-	for _, name := range slices.Sorted(maps.Keys(g.trees)) {
-		history := []int{}
-		for n := g.heads[name]; n > 0; n = g.parents[n-1] {
-			history = append(history, n)
-		}
-		fmt.Fprintf(&b, "%s: %v\n%s", name, history, g.trees[name].written())
-	}
-	for i, tree := range g.written {
-		fmt.Fprintf(&b, "%d:\n%s", i+1, tree)
-	}
-	return b.String()
-}
-
 // growStep does the same to a store and to its model, and answers both errors.
 func growStep(t *testing.T, r *rand.Rand, s *Store, g *grove) (Errno, Errno) {
 	names := []string{"a", "b", "c", "d", "e", "f", "g", "h"}
 	name, from := names[r.Intn(8)], names[r.Intn(8)]
-	switch r.Intn(12) {
+	switch r.Intn(16) {
 	case 0, 1:
 		return s.Fork(name, from), g.fork(name, from)
 	case 2:
+		if r.Intn(2) > 0 {
+			return OK, OK
+		}
 		return s.Drop(name), g.drop(name)
-	case 3, 4, 5:
+	case 3, 4, 5, 6:
+		n, e := s.Join(name, from)
+		m, f := g.join(name, from)
+		if n != m {
+			t.Fatalf("Join(%s, %s) = %d, want %d", name, from, n, m)
+		}
+		return e, f
+	case 7, 8, 9, 10:
 		n, e := s.Commit(name)
 		m, f := g.commit(name)
 		if n != m {
@@ -313,6 +245,102 @@ func TestCommitWalk(t *testing.T) {
 	for _, e := range []Errno{OK, ErrMany, ErrBranch, ErrSame} {
 		if seen[e] == 0 {
 			t.Errorf("the walk never met the error %d", e)
+		}
+	}
+}
+
+// mildStep is a step that leaves trees which can mostly be joined: each of a
+// few paths has a kind of its own, and seldom another one.
+func mildStep(r *rand.Rand, s *Store, branch string, m model) (Errno, Errno) {
+	k := r.Intn(8)
+	path, item := []string{"k", "l", "m", "n", "o/a", "o/b", "p/q/r", "p/q/s"}[k], string(rune('a'+r.Intn(12)))
+	if r.Intn(8) == 0 {
+		return s.Delete(branch, path), m.remove(path)
+	}
+	if r.Intn(60) == 0 {
+		k++
+	}
+	if r.Intn(60) == 0 {
+		path += "/x"
+	}
+	n := []int{1, -1, 10, 400000000, -400000000}[r.Intn(5)]
+	switch k % 4 {
+	case 0:
+		return s.Add(branch, path, n), m.add(path, n)
+	case 1:
+		return s.Note(branch, path, item), m.note(path, item)
+	case 2:
+		return s.Take(branch, path, item), m.take(path, item)
+	}
+	return s.Put(branch, path, item), m.put(path, item)
+}
+
+// weave does some steps on a branch and commits it, or joins two branches, the
+// same in a store and in its model.
+func weave(t *testing.T, r *rand.Rand, s *Store, g *grove, joined map[Errno]int) {
+	names := []string{"a", "b", "c", "d", "e", "f"}
+	name, from := names[r.Intn(6)], names[r.Intn(6)]
+	if r.Intn(2) > 0 {
+		n, e := s.Join(name, from)
+		m, f := g.join(name, from)
+		if joined[e]++; n != m || e != f {
+			t.Fatalf("Join(%s, %s) = %d, %d, want %d, %d, at\n%s", name, from, n, e, m, f, g.state())
+		}
+		return
+	}
+	for range 1 + r.Intn(3) {
+		if e, f := mildStep(r, s, name, g.trees[name]); e != f {
+			t.Fatalf("a step answered %d, want %d", e, f)
+		}
+	}
+	n, e := s.Commit(name)
+	if m, f := g.commit(name); n != m || e != f {
+		t.Fatalf("Commit(%s) = %d, %d, want %d, %d", name, n, e, m, f)
+	}
+}
+
+// sameBases: the store answers the model's bases, of all commits.
+func sameBases(t *testing.T, s *Store, g *grove, seen map[Errno]int, latest map[int]int) {
+	t.Helper()
+	for a := 1; a <= len(g.commits); a++ {
+		for b := 1; b <= a; b++ {
+			base, e := g.base(a, b)
+			latest[len(g.latest(a, b))]++
+			if seen[e]++; e == OK {
+				hasBase(t, s, a, b, base.written())
+			} else {
+				hasNoBase(t, s, a, b, e)
+			}
+		}
+	}
+}
+
+// Branches grow apart and together, as their model does.
+func TestJoinWalk(t *testing.T) {
+	r := rand.New(rand.NewSource(3))
+	joined, based, latest := map[Errno]int{}, map[Errno]int{}, map[int]int{}
+	for range 8 {
+		s, g := planted(t), &grove{trees: map[string]model{"a": {}}, heads: map[string]int{}}
+		for _, name := range []string{"b", "c", "d", "e", "f"} {
+			allowed(t, "Fork", s.Fork(name, "a"))
+			allowed(t, "Fork", g.fork(name, "a"))
+		}
+		for range 100 {
+			weave(t, r, s, g, joined)
+			if state(s) != g.state() {
+				t.Fatalf("the store is\n%s\nwant\n%s", state(s), g.state())
+			}
+		}
+		sameBases(t, s, g, based, latest)
+	}
+	for _, e := range []Errno{OK, ErrMany, ErrKind, ErrBlock, ErrCount, ErrSame} {
+		if joined[e] == 0 {
+			t.Errorf("no join answered the error %d", e)
+		}
+	}
+	for n := range 4 {
+		if latest[n] == 0 {
+			t.Errorf("no two commits had %d latest common ones", n)
 		}
 	}
 }
