@@ -55,25 +55,21 @@ func TestBaseOfNoCommit(t *testing.T) {
 	hasNoBase(t, s, 5, 6, ErrKind)
 }
 
-// sketched: a store whose commits have these parents and trees, laid down by
-// hand.
+// sketched: a store whose commits have these parents and trees.
 func sketched(t *testing.T, sketch ...planting) *Store {
 	t.Helper()
-	s := New()
+	var records []string
 	for _, p := range sketch {
-		other := planted(t)
-		lays(t, other, "a", p.tree.written())
-		s.commits = append(s.commits, commit{parents: p.parents, tree: other.find("a").tree})
+		records = append(records, p.record())
 	}
-	return s
+	return opened(t, records...)
 }
 
 // heads: gives a store's new branches a and b these heads.
 func heads(t *testing.T, s *Store, a int, b int) {
 	t.Helper()
 	for i, name := range []string{"a", "b"} {
-		allowed(t, "Branch", s.Branch(name))
-		s.move(s.find(name), []int{a, b}[i])
+		s.point(name, []int{a, b}[i])
 	}
 }
 

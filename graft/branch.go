@@ -26,16 +26,27 @@ func (s *Store) find(name string) *branch {
 	return s.branches[i]
 }
 
-// grow makes a branch with this head, and at work on the head's tree.
+// grow makes a branch with this head, if there is none with this name, and
+// room for one.
 func (s *Store) grow(name string, head int) Errno {
-	i, there := s.place(name)
-	if there {
+	if s.find(name) != nil {
 		return ErrSame
 	}
 	if len(s.branches) >= maxBranches {
 		return ErrMany
 	}
-	b := &branch{name: name, head: head, tree: s.treeOf(head)}
-	s.branches = slices.Insert(s.branches, i, b)
+	s.point(name, head)
 	return OK
+}
+
+// point makes a commit the head of the branch with this name, which is made if
+// there is none, and its tree the one at work on; and writes that.
+func (s *Store) point(name string, head int) {
+	i, there := s.place(name)
+	if !there {
+		s.branches = slices.Insert(s.branches, i, &branch{name: name})
+	}
+	b := s.branches[i]
+	b.head, b.tree = head, s.treeOf(head)
+	s.write(headLetter, bytesOf(head), name)
 }

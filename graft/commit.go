@@ -31,18 +31,19 @@ func (s *Store) atWork(b *branch) bool {
 	return !b.tree.same(s.treeOf(b.head))
 }
 
-// move makes a commit a branch's head, and its tree the one at work on.
-func (s *Store) move(b *branch, head int) {
-	b.head, b.tree = head, s.treeOf(head)
+// keep takes a commit down, and writes it: its number.
+func (s *Store) keep(c commit) int {
+	s.commits = append(s.commits, c)
+	s.write(commitLetter, bytesOf(len(c.parents)), bytesOf(c.parents...), c.tree.written())
+	return len(s.commits)
 }
 
-// keep takes a commit down, if there is room for one, and makes it the
+// advance takes a commit down, if there is room for one, and makes it the
 // branch's head.
-func (s *Store) keep(b *branch, c commit) (int, Errno) {
+func (s *Store) advance(b *branch, c commit) (int, Errno) {
 	if len(s.commits) >= maxCommits {
 		return 0, ErrMany
 	}
-	s.commits = append(s.commits, c)
-	s.move(b, len(s.commits))
+	s.point(b.name, s.keep(c))
 	return b.head, OK
 }

@@ -20,17 +20,27 @@ const (
 	ErrAbsent Errno = 10 // not there
 )
 
-// Store keeps branches and commits.
+// Store keeps branches and commits, and the pack they are written to.
 type Store struct {
 	branches []*branch // in the order of their names
 	commits  []commit  // the commit with the number n is at n-1
+	pack     []byte    // all that was written, one record behind the other
 }
 
 // New makes a store (P3).
 func New() *Store { return &Store{} }
 
 // Open makes a store of a pack (P8).
-func Open(pack string) *Store { return &Store{} }
+func Open(pack string) *Store {
+	s := New()
+	for {
+		first, rest, whole := firstRecord(pack)
+		if !whole || !s.replay(first) {
+			return s
+		}
+		pack = rest
+	}
+}
 
 // Branch makes a branch (P3).
 func (s *Store) Branch(name string) Errno {
@@ -59,6 +69,7 @@ func (s *Store) Drop(name string) Errno {
 		return ErrBranch
 	}
 	s.branches = slices.Delete(s.branches, i, i+1)
+	s.write(dropLetter, name)
 	return OK
 }
 
@@ -96,7 +107,7 @@ func (s *Store) Commit(branch string) (int, Errno) {
 	if !s.atWork(b) {
 		return 0, ErrSame
 	}
-	return s.keep(b, commit{parents: parentsOf(b.head), tree: b.tree})
+	return s.advance(b, commit{parents: parentsOf(b.head), tree: b.tree})
 }
 
 // Join joins a branch into another one (P6).
@@ -112,7 +123,7 @@ func (s *Store) Join(into string, from string) (int, Errno) {
 		return ours.head, OK
 	}
 	if s.holds(theirs.head, ours.head) {
-		s.move(ours, theirs.head)
+		s.point(into, theirs.head)
 		return ours.head, OK
 	}
 	return s.join(ours, theirs.head)
@@ -166,4 +177,4 @@ func (s *Store) Branches() []string {
 }
 
 // Pack tells the pack (P8).
-func (s *Store) Pack() string { return "" }
+func (s *Store) Pack() string { return string(s.pack) }

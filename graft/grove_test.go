@@ -9,16 +9,49 @@ import (
 	"strings"
 )
 
-// grove is a second telling of P3, P5, P6 and P7, on models of trees.
+// grove is a second telling of P3, P5, P6, P7 and of what is written to the
+// pack, on models of trees.
 type grove struct {
 	trees   map[string]model
 	heads   map[string]int
 	commits []planting
+	pack    string
 }
 
 type planting struct {
 	parents []int
 	tree    model
+}
+
+// newGrove: without branches and commits.
+func newGrove() *grove {
+	return &grove{trees: map[string]model{}, heads: map[string]int{}}
+}
+
+// byHand: a record, by the document's words.
+func byHand(letter byte, body string) string {
+	bytes := []byte{letter, byte(len(body) / 256), byte(len(body) % 256)}
+	bytes = append(bytes, body...)
+	sum := 1
+	for _, c := range bytes {
+		sum += int(c)
+	}
+	return string(append(bytes, byte(sum%251)))
+}
+
+func (p planting) record() string {
+	body := []byte{byte(len(p.parents))}
+	for _, n := range p.parents {
+		body = append(body, byte(n))
+	}
+	return byHand('C', string(body)+p.tree.written())
+}
+
+// plant: a commit.
+func (g *grove) plant(p planting) int {
+	g.commits = append(g.commits, p)
+	g.pack += p.record()
+	return len(g.commits)
 }
 
 func (g *grove) headTree(head int) model {
@@ -32,18 +65,27 @@ func (g *grove) fork(name string, from string) Errno {
 	if g.trees[from] == nil {
 		return ErrBranch
 	}
+	return g.sprout(name, g.heads[from])
+}
+
+func (g *grove) branch(name string) Errno {
+	return g.sprout(name, 0)
+}
+
+func (g *grove) sprout(name string, head int) Errno {
 	if g.trees[name] != nil {
 		return ErrSame
 	}
 	if len(g.trees) == 6 {
 		return ErrMany
 	}
-	g.move(name, g.heads[from])
+	g.move(name, head)
 	return OK
 }
 
 func (g *grove) move(name string, head int) {
 	g.trees[name], g.heads[name] = maps.Clone(g.headTree(head)), head
+	g.pack += byHand('B', string([]byte{byte(head)})+name)
 }
 
 func (g *grove) drop(name string) Errno {
@@ -52,6 +94,7 @@ func (g *grove) drop(name string) Errno {
 	}
 	delete(g.trees, name)
 	delete(g.heads, name)
+	g.pack += byHand('D', name)
 	return OK
 }
 
@@ -70,8 +113,7 @@ func (g *grove) commit(name string) (int, Errno) {
 	if head > 0 {
 		made.parents = []int{head}
 	}
-	g.commits = append(g.commits, made)
-	g.heads[name] = len(g.commits)
+	g.move(name, g.plant(made))
 	return len(g.commits), OK
 }
 
@@ -101,8 +143,7 @@ func (g *grove) join(into string, from string) (int, Errno) {
 	if len(g.commits) == 60 {
 		return 0, ErrMany
 	}
-	g.commits = append(g.commits, made)
-	g.move(into, len(g.commits))
+	g.move(into, g.plant(made))
 	return len(g.commits), OK
 }
 
@@ -259,5 +300,6 @@ func (g *grove) state() string {
 	for i, c := range g.commits {
 		fmt.Fprintf(&b, "%d:\n%s", i+1, c.tree.written())
 	}
+	fmt.Fprintf(&b, "%q\n", g.pack)
 	return b.String()
 }

@@ -9,7 +9,7 @@ import (
 )
 
 // state tells all that a store shows: its branches, with the history and the
-// tree of each, and the trees of all commits.
+// tree of each, the trees of all commits, and the pack.
 func state(s *Store) string {
 	var b strings.Builder
 	for _, name := range s.Branches() {
@@ -23,6 +23,7 @@ func state(s *Store) string {
 	for n := 1; ; n++ {
 		tree, e := s.Tree(n)
 		if e != OK {
+			fmt.Fprintf(&b, "%q\n", s.Pack())
 			return b.String()
 		}
 		fmt.Fprintf(&b, "%d:\n%s", n, tree)
@@ -146,6 +147,21 @@ func hasBranches(t *testing.T, s *Store, want ...string) {
 	t.Helper()
 	if got := s.Branches(); !slices.Equal(got, want) {
 		t.Errorf("Branches() = %q, want %q", got, want)
+	}
+}
+
+// opened: the store of a pack of these records, all of which are right.
+func opened(t *testing.T, records ...string) *Store {
+	t.Helper()
+	s := Open(strings.Join(records, ""))
+	hasPack(t, s, records...)
+	return s
+}
+
+func hasPack(t *testing.T, s *Store, records ...string) {
+	t.Helper()
+	if got := s.Pack(); got != strings.Join(records, "") {
+		t.Errorf("Pack() = %q, want %q", got, records)
 	}
 }
 

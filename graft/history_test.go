@@ -81,12 +81,11 @@ func TestHistoriesAreNewMemory(t *testing.T) {
 // last of them as its head.
 func laid(t *testing.T, parents ...[]int) *Store {
 	t.Helper()
-	s := planted(t)
+	var records []string
 	for _, p := range parents {
-		s.commits = append(s.commits, commit{parents: p})
+		records = append(records, planting{parents: p}.record())
 	}
-	s.find("a").head = len(parents)
-	return s
+	return opened(t, append(records, byHand('B', string(rune(len(parents)))+"a"))...)
 }
 
 // A commit that is reached by several ways is told once.

@@ -13,7 +13,7 @@ func (s *Store) join(b *branch, other int) (int, Errno) {
 	if e != OK {
 		return 0, e
 	}
-	return s.keep(b, commit{parents: []int{b.head, other}, tree: t})
+	return s.advance(b, commit{parents: []int{b.head, other}, tree: t})
 }
 
 // joined answers the join of three trees. Whether its paths can stand together

@@ -27,11 +27,11 @@ type value struct {
 func (v value) written() string {
 	switch v.kind {
 	case counter:
-		return "#" + strconv.Itoa(v.count)
+		return string(counterSign) + strconv.Itoa(v.count)
 	case note:
-		return "=" + v.text
+		return string(noteSign) + v.text
 	case bag:
-		return "*" + strings.Join(v.items, ";")
+		return string(bagSign) + strings.Join(v.items, itemBreak)
 	}
 	return ""
 }

@@ -195,10 +195,15 @@ func growStep(t *testing.T, r *rand.Rand, s *Store, g *grove) (Errno, Errno) {
 	names := []string{"a", "b", "c", "d", "e", "f", "g", "h"}
 	name, from := names[r.Intn(8)], names[r.Intn(8)]
 	switch r.Intn(16) {
-	case 0, 1:
+	case 0:
+		if r.Intn(4) == 0 || len(g.trees) == 0 {
+			return s.Branch(name), g.branch(name)
+		}
+		return s.Fork(name, from), g.fork(name, from)
+	case 1:
 		return s.Fork(name, from), g.fork(name, from)
 	case 2:
-		if r.Intn(2) > 0 {
+		if r.Intn(6) > 0 {
 			return OK, OK
 		}
 		return s.Drop(name), g.drop(name)
@@ -228,7 +233,8 @@ func TestCommitWalk(t *testing.T) {
 	r := rand.New(rand.NewSource(2))
 	seen := map[Errno]int{}
 	for range 15 {
-		s, g := planted(t), &grove{trees: map[string]model{"a": {}}, heads: map[string]int{}}
+		s, g := planted(t), newGrove()
+		g.move("a", 0)
 		for range 500 {
 			got, want := growStep(t, r, s, g)
 			if seen[got]++; got != want {
@@ -236,9 +242,6 @@ func TestCommitWalk(t *testing.T) {
 			}
 			if state(s) != g.state() {
 				t.Fatalf("the store is\n%s\nwant\n%s", state(s), g.state())
-			}
-			if len(g.trees) == 0 {
-				break
 			}
 		}
 	}
@@ -320,7 +323,8 @@ func TestJoinWalk(t *testing.T) {
 	r := rand.New(rand.NewSource(3))
 	joined, based, latest := map[Errno]int{}, map[Errno]int{}, map[int]int{}
 	for range 8 {
-		s, g := planted(t), &grove{trees: map[string]model{"a": {}}, heads: map[string]int{}}
+		s, g := planted(t), newGrove()
+		g.move("a", 0)
 		for _, name := range []string{"b", "c", "d", "e", "f"} {
 			allowed(t, "Fork", s.Fork(name, "a"))
 			allowed(t, "Fork", g.fork(name, "a"))

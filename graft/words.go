@@ -11,7 +11,17 @@ const (
 	maxItems    = 8
 	maxBranches = 6
 	maxCommits  = 60
+	maxParents  = 2
 	maxCount    = 1000000000
+)
+
+// What a written value begins with, by its kind, and what stands between the
+// items of a bag.
+const (
+	counterSign = '#'
+	noteSign    = '='
+	bagSign     = '*'
+	itemBreak   = ";"
 )
 
 // longestPath bounds a path ahead of its being split, so that a huge
